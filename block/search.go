@@ -16,7 +16,7 @@ type search struct {
 	found int
 	trail []int // the half-edges by which the walk went down to where it is
 	open  []int // the edges gone over whose block is not whole yet
-	shut  func(first int)
+	shut  func(first int) // closes the block that is whole, whose first open edge is this one
 }
 
 // parted: of each edge a number of the block that it is in, and how many blocks there are.
