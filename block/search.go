@@ -14,8 +14,8 @@ type search struct {
 	low   []int   // of each node found the least place to which an edge leads from it or from below it, but for the one it was found by
 	over  []bool  // of each edge whether the walk went over it
 	found int
-	trail []int // the half-edges by which the walk went down to where it is
-	open  []int // the edges gone over whose block is not whole yet
+	trail []int           // the half-edges by which the walk went down to where it is
+	open  []int           // the edges gone over whose block is not whole yet
 	shut  func(first int) // closes the block that is whole, whose first open edge is this one
 }
 
